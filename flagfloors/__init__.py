@@ -1,0 +1,1 @@
+"""Flagfloors: patterns of tiles, told by finite tables of flags."""
