@@ -105,3 +105,71 @@ def small_patterns(most):
                 q = orders_of(s1, s2, factors[::-1])
                 found.append((s0, s1, s2, p, q))
     return tuple(found)
+
+
+# The cube out of six squares: the rows of its labels go round each square.
+CUBE_TILES = (
+    (1, 2, 3, 4), (-1, 5, 9, -6), (-2, 6, 10, -7), (-3, 7, 11, -8), (-4, 8, 12, -5),
+    (-12, -11, -10, -9),
+)
+TETRAHEDRON_TILES = ((1, 2, 3), (-1, 4, -5), (-2, 5, -6), (-3, 6, -4))
+
+
+def plain_glued(tiles):
+    """A pattern out of tiles that can be glued, from the ends of the edges."""
+    sides = [(t, m, label) for t, tile in enumerate(tiles) for m, label in enumerate(tile)]
+    flags = []
+    for t, m, label in sides:
+        flags.append((t, m, "come", "begin" if label > 0 else "end"))
+        flags.append((t, m, "leave", "end" if label > 0 else "begin"))
+    number = {flag[:3]: f for f, flag in enumerate(flags)}
+    s0, s1, s2 = [], [], []
+    for f, (t, m, way, end) in enumerate(flags):
+        many = len(tiles[t])
+        s0.append(number[(t, m, "leave" if way == "come" else "come")])
+        if way == "come":
+            s1.append(number[(t, (m - 1) % many, "leave")])
+        else:
+            s1.append(number[(t, (m + 1) % many, "come")])
+        others = [
+            g for g, (t2, m2, _, end2) in enumerate(flags)
+            if abs(tiles[t2][m2]) == abs(tiles[t][m]) and (t2, m2) != (t, m) and end2 == end
+        ]
+        s2.append(others[0] if others else f)
+    p = tuple(len(tiles[t]) for t, _, _, _ in flags)
+    q = tuple(plain_round(s1, s2, f) for f in range(len(flags)))
+    return (tuple(s0), tuple(s1), tuple(s2), p, q)
+
+
+def path(size, order=2):
+    """A row of flags that changes 0 and 1 lead along, with mirrors of change 0 or 1 at its ends."""
+    s0 = tuple(f ^ 1 if f ^ 1 < size else f for f in range(size))
+    s1 = tuple(f if f == 0 or ((f - 1) ^ 1) + 1 >= size else ((f - 1) ^ 1) + 1 for f in range(size))
+    p = (plain_round(s0, s1, 0),) * size
+    return (s0, s1, tuple(range(size)), p, (order,) * size)
+
+
+def is_plain_lead(a, b, row):
+    """Whether a row with one flag of b for each flag of a is a lead."""
+    return all(
+        b[i][row[f]] == row[a[i][f]] for i in range(3) for f in range(len(row))
+    ) and all(b[i][row[f]] == a[i][f] for i in (3, 4) for f in range(len(row)))
+
+
+@lru_cache(maxsize=None)
+def partitions(size):
+    """All rows of class numbers that are 0, 1, 2 and so on where they first occur."""
+    rows = [()]
+    for _ in range(size):
+        rows = [row + (k,) for row in rows for k in range(max(row, default=-1) + 2)]
+    return tuple(rows)
+
+
+def is_plain_folding(pattern, row):
+    """Whether a row of class numbers is carried by the changes, with equal orders."""
+    flags = range(len(row))
+    return all(
+        pattern[3][f] == pattern[3][g] and pattern[4][f] == pattern[4][g]
+        and all(row[s[f]] == row[s[g]] for s in pattern[:3])
+        for f in flags for g in flags if row[f] == row[g]
+    )

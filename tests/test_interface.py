@@ -15,6 +15,15 @@ INTERFACE = {
         "is_mirrored(pattern, flag, i, j)", "walked(pattern, flag, steps)",
     ],
     "numberings": ["renumbered(pattern, listing)", "walk(pattern, flag)", "least(pattern)"],
+    "orders": ["reordered(pattern, word, flag, order)"],
+    "glue": ["glued(tiles)"],
+    "texts": ["written(pattern)", "read_pattern(text)"],
+    "leads": ["leads(a, b)", "are_alike(a, b)", "selves(pattern)"],
+    "foldings": [
+        "check_folding(pattern, value)", "folded(pattern, folding)", "is_finer(a, b)", "met(a, b)",
+        "joined(a, b)", "foldings(pattern)", "coarsest(pattern)",
+    ],
+    "commons": ["common_cover(a, b)"],
 }
 
 
