@@ -1,7 +1,9 @@
 """What several modules need: limits, kinds of values, and ways along changes."""
 
+DIGITS = "0123456789"
 MOST_FLAGS = 240
 MOST_ORDER = 9999
+MOST_SIDES = 120
 
 
 def is_int(value):
@@ -12,6 +14,16 @@ def is_int(value):
 def is_row(value):
     """Tell whether a value is a tuple of integers."""
     return isinstance(value, tuple) and all(is_int(entry) for entry in value)
+
+
+def is_table(value, many, most):
+    """Tell whether a value is a tuple of many rows of integers of one length from 1 to most."""
+    if not isinstance(value, tuple) or len(value) != many:
+        return False
+    if not all(is_row(row) for row in value):
+        return False
+    size = len(value[0])
+    return 1 <= size <= most and all(len(row) == size for row in value)
 
 
 def reached(changes, flag):
@@ -29,6 +41,15 @@ def reached(changes, flag):
     return tuple(listing)
 
 
+def unreached(changes):
+    """Return the least flag that changes do not lead to from flag 0, or None."""
+    listed = {flag: True for flag in reached(changes, 0)}
+    for flag in range(len(changes[0])):
+        if flag not in listed:
+            return flag
+    return None
+
+
 def round_at(first, second, flag):
     """Return how often one goes along two changes until the flag comes again."""
     times_gone = 1
@@ -37,3 +58,35 @@ def round_at(first, second, flag):
         at = second[first[at]]
         times_gone += 1
     return times_gone
+
+
+def border_sides(changes):
+    """Return the pairs of a flag and the number of a change that leads it to itself."""
+    return [
+        (flag, side)
+        for flag in range(len(changes[0]))
+        for side, change in enumerate(changes)
+        if change[flag] == flag
+    ]
+
+
+def border_round(changes, flag, side, corner):
+    """Return the border sides of a border from one on, each with the corner where one goes on."""
+    first = (flag, side, corner)
+    row = [first]
+    at = _border_after(changes, first)
+    while at != first:
+        row.append(at)
+        at = _border_after(changes, at)
+    return row
+
+
+def _border_after(changes, at):
+    """Return the border side that one goes on to, with the corner where one goes on from it."""
+    flag, side, corner = at
+    both = 3 - corner
+    along = both - side
+    while changes[along][flag] != flag:
+        flag = changes[along][flag]
+        along = both - along
+    return (flag, along, both - along)

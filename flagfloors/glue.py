@@ -1,6 +1,6 @@
 """Gluing polygons to a pattern."""
 
-from flagfloors.basics import MOST_FLAGS, is_row, reached, round_at
+from flagfloors.basics import MOST_SIDES, is_row, reached, round_at
 from flagfloors.errors import NotGlued
 
 
@@ -22,8 +22,7 @@ def _check_form(tiles):
     """Raise NotGlued if a value is not a tuple of tiles, or a tile has no sides."""
     if not isinstance(tiles, tuple) or not all(is_row(tile) for tile in tiles):
         raise NotGlued(-1, -1)
-    # Each side has two flags.
-    if not tiles or 2 * sum(len(tile) for tile in tiles) > MOST_FLAGS:
+    if not tiles or sum(len(tile) for tile in tiles) > MOST_SIDES:
         raise NotGlued(-1, -1)
     for number, tile in enumerate(tiles):
         if not tile:

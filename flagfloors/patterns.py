@@ -1,12 +1,12 @@
 """Patterns: tuples (s0, s1, s2, p, q), and the rules that they keep."""
 
-from flagfloors.basics import MOST_FLAGS, MOST_ORDER, is_row, reached, round_at
+from flagfloors.basics import MOST_FLAGS, MOST_ORDER, is_table, round_at, unreached
 from flagfloors.errors import NotPattern
 
 
 def breach(value):
     """Return the first rule that a value breaks and its place, or None for a valid pattern."""
-    if not _has_form(value):
+    if not is_table(value, 5, MOST_FLAGS):
         return ("form", -1)
     s0, s1, s2, p, q = value
     # Each rule is looked at only behind those above it: the rounds, for one,
@@ -23,7 +23,7 @@ def breach(value):
     place = _order_place(s1, s2, q)
     if place is not None:
         return ("corner", place)
-    place = _unreached_place((s0, s1, s2))
+    place = unreached((s0, s1, s2))
     if place is not None:
         return ("whole", place)
     return None
@@ -40,16 +40,6 @@ def check_pattern(value):
 def size_of(pattern):
     """Return the number of flags."""
     return len(pattern[0])
-
-
-def _has_form(value):
-    """Tell whether a value is a tuple of five rows of integers of one length."""
-    if not isinstance(value, tuple) or len(value) != 5:
-        return False
-    if not all(is_row(row) for row in value):
-        return False
-    size = len(value[0])
-    return 1 <= size <= MOST_FLAGS and all(len(row) == size for row in value)
 
 
 def _change_place(changes):
@@ -79,14 +69,5 @@ def _order_place(first, second, orders):
         if orders[first[flag]] != order or orders[second[flag]] != order:
             return flag
         if order % round_at(first, second, flag) != 0:
-            return flag
-    return None
-
-
-def _unreached_place(changes):
-    """Return the least flag that the changes do not lead to from flag 0."""
-    listed = {flag: True for flag in reached(changes, 0)}
-    for flag in range(len(changes[0])):
-        if flag not in listed:
             return flag
     return None

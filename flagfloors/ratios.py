@@ -32,6 +32,17 @@ def over(a, b):
     return ratio(a[0] * b[1], a[1] * b[0])
 
 
+def inverse_sum(numbers):
+    """Return the sum of 1/k over integers k of at least 1."""
+    counts = {}
+    for number in numbers:
+        counts[number] = counts.get(number, 0) + 1
+    total = (0, 1)
+    for number, count in counts.items():
+        total = plus(total, ratio(count, number))
+    return total
+
+
 def sign_of(a):
     """Return 1, 0 or -1 for a ratio above, equal to or below zero."""
     if a[0] > 0:

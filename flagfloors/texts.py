@@ -1,9 +1,9 @@
 """The texts of patterns."""
 
+from flagfloors.basics import DIGITS
 from flagfloors.errors import NotText
 from flagfloors.patterns import check_pattern
 
-DIGITS = "0123456789"
 MOST_DIGITS = 4
 GROUPS = 5
 

@@ -24,6 +24,24 @@ INTERFACE = {
         "joined(a, b)", "foldings(pattern)", "coarsest(pattern)",
     ],
     "commons": ["common_cover(a, b)"],
+    "surfaces": [
+        "flag_sum(pattern)", "surface_count(pattern)", "colours(pattern)", "is_oriented(pattern)",
+    ],
+    "names": [
+        "name_of(pattern)", "normal_name(handles, turns, borders, crosscaps)", "check_name(value)",
+        "name_sum(name)",
+    ],
+    "sides": ["is_bad(name)", "side_of(name)", "point_count(name)", "ball_count(name)"],
+    "namefloors": ["pattern_of(name)"],
+    "nametexts": ["written_name(name)", "read_name(text)"],
+    "recipes": ["recipe_breach(value)", "check_recipe(value)"],
+    "applying": ["applied(recipe, pattern)", "cell_counts(recipe, pattern)", "weights(pattern)"],
+    "following": [
+        "followed(first, second)", "least_recipe(recipe)", "are_same_recipes(a, b)",
+    ],
+    "recipewords": ["named_recipe(word)", "recipe_of_words(text)"],
+    "covers": ["normal_cover(cover)", "check_cover(pattern, value)", "covers(pattern, sheets)"],
+    "decks": ["decks(cover)", "is_regular(cover)", "cover_leads(a, b)"],
 }
 
 

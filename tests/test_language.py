@@ -35,7 +35,7 @@ NODES = (
     ast.GeneratorExp, ast.comprehension, ast.BinOp, ast.UnaryOp, ast.BoolOp, ast.Compare, ast.IfExp,
     ast.And, ast.Or, ast.Not, ast.USub, ast.Add, ast.Sub, ast.Mult, ast.FloorDiv, ast.Mod, ast.Pow,
     ast.Eq, ast.NotEq, ast.Lt, ast.LtE, ast.Gt, ast.GtE, ast.Is, ast.IsNot, ast.In, ast.NotIn,
-    ast.JoinedStr, ast.FormattedValue,
+    ast.JoinedStr, ast.FormattedValue, ast.Starred,
 )
 SINGLE = (list, tuple, dict, sorted, sum, min, max, any, all)
 
@@ -172,6 +172,21 @@ class Language(unittest.TestCase):
                 if isinstance(node, ast.Call) and isinstance(node.func, ast.Name):
                     if node.func.id == "set":
                         self.fail((path, node.lineno))
+
+    def test_stars_stand_in_targets_of_assignments(self):
+        for path, tree in self.trees.items():
+            for node in ast.walk(tree):
+                if isinstance(node, ast.Starred):
+                    self.assertIsInstance(node.ctx, ast.Store, (path, node.lineno))
+
+    def test_no_name_is_imported_or_bound_in_vain(self):
+        for path, tree in self.trees.items():
+            read = {n.id for n in ast.walk(tree) if isinstance(n, ast.Name) and isinstance(n.ctx, ast.Load)}
+            for node in imports(tree):
+                self.assertLessEqual({alias.name for alias in node.names}, read, path)
+            private = {name for name in top_names(tree) if name.startswith("_")}
+            self.assertLessEqual(private, read, path)
+            self.assertNotIn("_", read, path)
 
     def test_errors_are_created_on_the_spot(self):
         for path, tree in self.trees.items():

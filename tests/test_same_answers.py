@@ -4,26 +4,41 @@ import copy
 import unittest
 
 import samples
+from flagfloors.applying import applied, cell_counts, weights
 from flagfloors.classes import (
     class_of, classes, is_mirrored, order_of, round_of, turn_of, walked,
 )
 from flagfloors.commons import common_cover
+from flagfloors.covers import check_cover, covers, normal_cover
+from flagfloors.decks import cover_leads, decks, is_regular
 from flagfloors.errors import FlagError
 from flagfloors.foldings import (
     check_folding, coarsest, folded, foldings, is_finer, joined, met,
 )
+from flagfloors.following import are_same_recipes, followed, least_recipe
 from flagfloors.glue import glued
 from flagfloors.leads import are_alike, leads, selves
+from flagfloors.namefloors import pattern_of
+from flagfloors.names import check_name, name_of, name_sum, normal_name
+from flagfloors.nametexts import read_name, written_name
 from flagfloors.numberings import least, renumbered, walk
 from flagfloors.orders import reordered
 from flagfloors.patterns import breach, check_pattern, size_of
 from flagfloors.ratios import minus, over, plus, ratio, sign_of, times
+from flagfloors.recipes import check_recipe, recipe_breach
+from flagfloors.recipewords import named_recipe, recipe_of_words
+from flagfloors.sides import ball_count, is_bad, point_count, side_of
+from flagfloors.surfaces import colours, flag_sum, is_oriented, surface_count
 from flagfloors.texts import read_pattern, written
 
 TORUS = samples.TORUS
 SQUARE = samples.MIRRORED_SQUARE
 BAD_LISTS = [[0], [0], [0], [4], [3]]
 TUPLE_OF_LISTS = ([0], [0], [0], [4], [3])
+NAME = (0, (2, 3), ((), (2, 3, 4), (2, 5, 3)), 0)
+MIDDLE = ((-2, -2), (-3, -1), (1, 0))
+COVER = (TORUS, (0,) * 8)
+SQUARE_TILES = ((0,), (0,), (0,), (4,), (4,))
 
 CALLS = [
     (ratio, 6, -4),
@@ -76,6 +91,52 @@ CALLS = [
     (common_cover, samples.ring(4, 12), samples.ring(6, 12)),
     (common_cover, samples.ring(11, 132), samples.ring(12, 132)),
     (common_cover, TORUS, samples.ring(6)),
+    (flag_sum, SQUARE),
+    (surface_count, SQUARE),
+    (colours, SQUARE),
+    (is_oriented, SQUARE),
+    (name_of, SQUARE),
+    (normal_name, 0, (3, 1, 2), ((4, 3, 2), (1,)), 2),
+    (check_name, NAME),
+    (check_name, [0, [], [], 0]),
+    (check_name, (0, [3, 2], [[4, 3, 2]], 0)),
+    (name_sum, NAME),
+    (is_bad, NAME),
+    (side_of, NAME),
+    (point_count, (0, (2,), ((2, 2),), 0)),
+    (ball_count, (0, (), ((2, 3, 5),), 0)),
+    (pattern_of, NAME),
+    (pattern_of, (60, (), (), 0)),
+    (written_name, NAME),
+    (read_name, "32*432*(17)"),
+    (read_name, "32*432*(17"),
+    (recipe_breach, MIDDLE),
+    (recipe_breach, [[-1], [-2], [-3]]),
+    (recipe_breach, ([-1], [-2], [-3])),
+    (check_recipe, MIDDLE),
+    (check_recipe, ([-1], [-2], [-3])),
+    (applied, MIDDLE, SQUARE),
+    (applied, MIDDLE, samples.ring(120)),
+    (cell_counts, MIDDLE, SQUARE),
+    (weights, SQUARE),
+    (followed, MIDDLE, MIDDLE),
+    (least_recipe, MIDDLE),
+    (are_same_recipes, MIDDLE, ((-2, -2), (-1, -3), (1, 0))),
+    (named_recipe, "part"),
+    (named_recipe, "parts"),
+    (recipe_of_words, "part expand"),
+    (recipe_of_words, "part expand cut"),
+    (recipe_of_words, "part  cut"),
+    (normal_cover, COVER),
+    (check_cover, SQUARE_TILES, COVER),
+    (check_cover, SQUARE_TILES, [TORUS, [0] * 8]),
+    (check_cover, SQUARE_TILES, (TORUS, [0] * 8)),
+    (covers, SQUARE, 3),
+    (covers, SQUARE, 4),
+    (covers, SQUARE_TILES, 8),
+    (decks, COVER),
+    (is_regular, COVER),
+    (cover_leads, COVER, (SQUARE_TILES, (0,))),
 ]
 
 
