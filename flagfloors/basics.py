@@ -1,4 +1,6 @@
-"""What several modules need: limits, kinds of values, and ways along changes."""
+"""What several modules need: limits, kinds of values, ways along changes, and trees."""
+
+from flagfloors.errors import TooMany
 
 DIGITS = "0123456789"
 MOST_FLAGS = 240
@@ -48,6 +50,57 @@ def unreached(changes):
         if flag not in listed:
             return flag
     return None
+
+
+def unfolded(pattern, first, after):
+    """Return the pattern whose flags are the states reached from a first one, and these states.
+
+    A state is a tuple that begins with a flag of the given pattern; `after(state, i)` is the
+    state to which change i leads. States are numbered as a walk lists flags.
+    """
+    states = [first]
+    numbers = {first: 0}
+    changes = ([], [], [])
+    at = 0
+    while at < len(states):
+        for i in (0, 1, 2):
+            state = after(states[at], i)
+            if state not in numbers:
+                if len(states) == MOST_FLAGS:
+                    raise TooMany(MOST_FLAGS)
+                numbers[state] = len(states)
+                states.append(state)
+            changes[i].append(numbers[state])
+        at += 1
+    s0, s1, s2 = [tuple(change) for change in changes]
+    p = tuple([pattern[3][state[0]] for state in states])
+    q = tuple([pattern[4][state[0]] for state in states])
+    return ((s0, s1, s2, p, q), tuple(states))
+
+
+def spanning(many, ends, root):
+    """Return a tree from a root on: pairs of a node and the number of the edge that reaches it.
+
+    The nodes are the integers below many; ends has a pair of nodes for each edge. Each node
+    but the root is listed behind the node from which it is reached.
+    """
+    beside = [[] for _ in range(many)]
+    for edge, (x, y) in enumerate(ends):
+        beside[x].append((y, edge))
+        beside[y].append((x, edge))
+    listing = [root]
+    listed = {root: True}
+    tree = []
+    at = 0
+    while at < len(listing):
+        here = listing[at]
+        for node, edge in beside[here]:
+            if node not in listed:
+                listed[node] = True
+                listing.append(node)
+                tree.append((node, edge))
+        at += 1
+    return tuple(tree)
 
 
 def round_at(first, second, flag):

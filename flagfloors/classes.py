@@ -53,3 +53,12 @@ def walked(pattern, flag, steps):
     for step in steps:
         at = pattern[step][at]
     return at
+
+
+def class_numbers(pattern, i, j):
+    """Return the number of its class among all classes of two changes, for each flag."""
+    numbers = [0] * len(pattern[i])
+    for number, members in enumerate(classes(pattern, i, j)):
+        for member in members:
+            numbers[member] = number
+    return tuple(numbers)

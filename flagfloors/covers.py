@@ -33,6 +33,8 @@ def check_cover(pattern, value):
 def covers(pattern, sheets):
     """Return all covers with a number of sheets in normal form, ascending."""
     size = len(pattern[0])
+    if sheets < 1:
+        return ()
     if sheets == 1:
         return (normal_cover((pattern, tuple(range(size)))),)
     if size * sheets * sheets > MOST_TO_COVER:

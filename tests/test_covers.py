@@ -73,6 +73,11 @@ class Covers(unittest.TestCase):
         other = plain_covers.numbered((samples.TORUS, tuple(range(8))), [3, 1, 2, 0, 4, 7, 6, 5])[0]
         self.assertEqual(covers(other, 1), plain_covers.plain_covers(other, 1))
 
+    def test_no_sheets(self):
+        for pattern in (samples.CUBE, samples.TORUS):
+            self.assertEqual(covers(pattern, 0), ())
+            self.assertEqual(covers(pattern, -1), ())
+
     def test_just_72(self):
         path = reordered(samples.path(18, 4), "tile", 0, 36)
         found = covers(path, 2)

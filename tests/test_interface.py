@@ -42,6 +42,25 @@ INTERFACE = {
     "recipewords": ["named_recipe(word)", "recipe_of_words(text)"],
     "covers": ["normal_cover(cover)", "check_cover(pattern, value)", "covers(pattern, sheets)"],
     "decks": ["decks(cover)", "is_regular(cover)", "cover_leads(a, b)"],
+    "stacks": ["stacked(cover, upper)", "met_cover(a, b)"],
+    "freed": ["is_free(pattern)", "oriented(pattern)"],
+    "bodies": ["body(pattern)", "ball_parts(pattern)", "census(pattern, word)"],
+    "ringcovers": ["ring_cover(pattern)"],
+    "layings": ["laid(pattern)", "is_laying(pattern, value)", "spans(laid)"],
+    "motions": ["motions(laid)", "then(first, second)"],
+    "sorts": ["sort_of(motions)", "kept_form(motions)"],
+    "areas": ["tile_areas(laid)", "is_straight(laid)"],
+    "neighbours": ["tile_rings(pattern, flag, most)", "corner_rings(pattern, flag, most)"],
+    "lists": ["frames(count)", "plane_patterns(count)"],
+    "deeds": ["done(pattern, deed)", "all_done(pattern, deeds)"],
+}
+CLASSES = {
+    "desks": {
+        "Desk(pattern, *, most=20)": [
+            "do(self, deed)", "undo(self)", "redo(self)", "past(self)", "ahead(self)",
+            "run(self, deeds)", "twin(self)", "trial(self)",
+        ],
+    },
 }
 
 
@@ -55,3 +74,20 @@ class Interface(unittest.TestCase):
                 self.assertTrue(inspect.isfunction(found), head)
                 self.assertEqual(found.__module__, module.__name__, head)
                 self.assertEqual(name + str(inspect.signature(found)), head)
+
+    def test_classes(self):
+        for file, heads in CLASSES.items():
+            module = importlib.import_module("flagfloors." + file)
+            for head, methods in heads.items():
+                name = head.partition("(")[0]
+                found = getattr(module, name)
+                self.assertTrue(inspect.isclass(found), head)
+                self.assertEqual(found.__module__, module.__name__, head)
+                self.assertEqual(name + str(inspect.signature(found)), head)
+                for method in methods:
+                    own = vars(found)[method.partition("(")[0]]
+                    self.assertEqual(own.__name__ + str(inspect.signature(own)), method)
+
+    def test_all_done_is_a_generator(self):
+        module = importlib.import_module("flagfloors.deeds")
+        self.assertTrue(inspect.isgeneratorfunction(module.all_done))

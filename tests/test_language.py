@@ -13,7 +13,10 @@ from pathlib import Path
 PACKAGE = Path(__file__).resolve().parent.parent / "flagfloors"
 FILES = sorted(PACKAGE.rglob("*.py"))
 
-LIBRARY = {"math": {"gcd", "lcm", "isqrt"}, "heapq": {"heappush", "heappop"}}
+LIBRARY = {
+    "math": {"gcd", "lcm", "isqrt"}, "heapq": {"heappush", "heappop"},
+    "itertools": {"product", "permutations"},
+}
 BUILTINS = set(
     "len range enumerate zip min max sum abs sorted reversed int str bool list tuple dict set "
     "isinstance ord repr any all divmod ValueError KeyError ZeroDivisionError".split()
@@ -148,7 +151,7 @@ class Language(unittest.TestCase):
                 counts[name] = counts.get(name, 0) + 1
                 self.assertNotIn(name, vars(builtins), at)
                 self.assertNotIn(name, WORDS, at)
-                self.assertRegex(name, r"^(__init__|_|_?[A-Za-z][A-Za-z0-9_]*)$", at)
+                self.assertRegex(name, r"^(__(init|enter|exit)__|_|_?[A-Za-z][A-Za-z0-9_]*)$", at)
                 if name in brought:
                     self.assertEqual(counts[name], 1, at)
             known = {name for name, _ in bound_names(tree)} | brought | BUILTINS

@@ -4,30 +4,43 @@ import copy
 import unittest
 
 import samples
+import test_interface
 from flagfloors.applying import applied, cell_counts, weights
+from flagfloors.areas import is_straight, tile_areas
+from flagfloors.bodies import ball_parts, body, census
 from flagfloors.classes import (
     class_of, classes, is_mirrored, order_of, round_of, turn_of, walked,
 )
 from flagfloors.commons import common_cover
 from flagfloors.covers import check_cover, covers, normal_cover
 from flagfloors.decks import cover_leads, decks, is_regular
+from flagfloors.deeds import all_done, done
+from flagfloors.desks import Desk
 from flagfloors.errors import FlagError
 from flagfloors.foldings import (
     check_folding, coarsest, folded, foldings, is_finer, joined, met,
 )
 from flagfloors.following import are_same_recipes, followed, least_recipe
+from flagfloors.freed import is_free, oriented
 from flagfloors.glue import glued
+from flagfloors.layings import is_laying, laid, spans
 from flagfloors.leads import are_alike, leads, selves
+from flagfloors.lists import frames, plane_patterns
+from flagfloors.motions import motions, then
 from flagfloors.namefloors import pattern_of
 from flagfloors.names import check_name, name_of, name_sum, normal_name
 from flagfloors.nametexts import read_name, written_name
+from flagfloors.neighbours import corner_rings, tile_rings
 from flagfloors.numberings import least, renumbered, walk
 from flagfloors.orders import reordered
 from flagfloors.patterns import breach, check_pattern, size_of
 from flagfloors.ratios import minus, over, plus, ratio, sign_of, times
 from flagfloors.recipes import check_recipe, recipe_breach
 from flagfloors.recipewords import named_recipe, recipe_of_words
+from flagfloors.ringcovers import ring_cover
 from flagfloors.sides import ball_count, is_bad, point_count, side_of
+from flagfloors.sorts import kept_form, sort_of
+from flagfloors.stacks import met_cover, stacked
 from flagfloors.surfaces import colours, flag_sum, is_oriented, surface_count
 from flagfloors.texts import read_pattern, written
 
@@ -39,6 +52,25 @@ NAME = (0, (2, 3), ((), (2, 3, 4), (2, 5, 3)), 0)
 MIDDLE = ((-2, -2), (-3, -1), (1, 0))
 COVER = (TORUS, (0,) * 8)
 SQUARE_TILES = ((0,), (0,), (0,), (4,), (4,))
+LAYING = laid(SQUARE_TILES)
+MOTIONS = motions(LAYING)
+DEEDS = [("recipe", "dual"), ("cover", 2, 1), ("coarsest",)]
+
+
+def listed_deeds(pattern, deeds):
+    """The patterns that a row of deeds makes."""
+    return tuple(all_done(pattern, deeds))
+
+
+def desk_after(pattern, deeds):
+    """What a desk tells behind a row of deeds, one of them taken back."""
+    desk = Desk(pattern, most=2)
+    many = desk.run(deeds)
+    desk.undo()
+    with desk.trial() as other:
+        other.redo()
+    return (many, desk.pattern, desk.past(), desk.ahead(), other.past(), desk.twin().ahead())
+
 
 CALLS = [
     (ratio, 6, -4),
@@ -137,6 +169,48 @@ CALLS = [
     (decks, COVER),
     (is_regular, COVER),
     (cover_leads, COVER, (SQUARE_TILES, (0,))),
+    (stacked, COVER, (TORUS, tuple(range(8)))),
+    (met_cover, COVER, COVER),
+    (met_cover, (samples.ring(11, 132), (0, 1) * 11), (samples.ring(12, 132), (0, 1) * 12)),
+    (is_free, TORUS),
+    (oriented, SQUARE),
+    (oriented, samples.ring(61)),
+    (body, samples.CUBE),
+    (body, samples.ring(61)),
+    (body, TORUS),
+    (ball_parts, samples.CUBE),
+    (ball_parts, TORUS),
+    (census, samples.CUBE, "corner"),
+    (ring_cover, SQUARE),
+    (ring_cover, samples.CUBE),
+    (laid, SQUARE),
+    (laid, samples.CUBE),
+    (is_laying, SQUARE_TILES, LAYING),
+    (is_laying, SQUARE_TILES, [list(part) for part in LAYING]),
+    (is_laying, SQUARE_TILES, (LAYING[0], LAYING[1], list(LAYING[2]), LAYING[3])),
+    (is_laying, samples.CUBE, []),
+    (spans, LAYING),
+    (motions, LAYING),
+    (then, MOTIONS[1], MOTIONS[4]),
+    (sort_of, MOTIONS),
+    (kept_form, MOTIONS),
+    (tile_areas, LAYING),
+    (is_straight, LAYING),
+    (tile_rings, SQUARE, 3, 4),
+    (tile_rings, samples.CUBE, 0, 12),
+    (corner_rings, SQUARE, 3, 4),
+    (frames, 3),
+    (frames, 5),
+    (plane_patterns, 2),
+    (plane_patterns, 4),
+    (done, SQUARE_TILES, ("recipe", "cut")),
+    (done, SQUARE_TILES, ["recipe", "cut"]),
+    (done, SQUARE_TILES, ("image", [0])),
+    (listed_deeds, SQUARE_TILES, DEEDS),
+    (listed_deeds, SQUARE_TILES, DEEDS + [["least"]]),
+    (desk_after, SQUARE_TILES, DEEDS),
+    (desk_after, SQUARE_TILES, DEEDS + [["least"]]),
+    (desk_after, BAD_LISTS, DEEDS),
 ]
 
 
@@ -157,3 +231,21 @@ class SameAnswers(unittest.TestCase):
             self.assertEqual(answer(call, given), first, call)
             self.assertEqual(given, kept, call)
             self.assertEqual(answer(call, kept), first, call)
+
+    def test_returned_kinds_of_values(self):
+        for call, *given in CALLS:
+            found = answer(call, given)
+            if not (isinstance(found, tuple) and isinstance(found[0], type)):
+                self.assertTrue(is_plain(found), call)
+
+    def test_all_functions_of_the_interface_are_called(self):
+        called = {call.__name__ for call, *_ in CALLS} | {"all_done"}
+        heads = [head for rows in test_interface.INTERFACE.values() for head in rows]
+        self.assertLessEqual({head.partition("(")[0] for head in heads}, called)
+
+
+def is_plain(value):
+    """Whether a value is an integer, a string, True, False, None, or a tuple of such."""
+    if type(value) is tuple:
+        return all(is_plain(part) for part in value)
+    return value is None or type(value) in (int, str, bool)
