@@ -1,5 +1,6 @@
 import unittest
 from fractions import Fraction
+from itertools import product
 from math import gcd
 
 import plane_samples
@@ -100,6 +101,14 @@ def with_steps(made, steps):
 
 def replaced(row, at, value):
     return row[:at] + (value,) + row[at + 1:]
+
+
+def seen_through(matrix, made):
+    """A laying seen through a matrix, which need not leave it a laying."""
+    above, lead, steps, places = made
+    spots = [plane_samples.seen(matrix, plane_samples.as_fractions(place)) for place in places]
+    return (above, lead, tuple(plane_samples.seen(matrix, step) for step in steps),
+            tuple(plane_samples.as_ratios(spot) for spot in spots))
 
 
 def edge_flags(above, flag):
@@ -241,17 +250,24 @@ class IsLaying(unittest.TestCase):
             self.assertEqual(broken_rules(pattern, value), {rule})
             self.refused(pattern, value)
 
+    def test_all_small_matrices(self):
+        value = laid(plane_samples.SQUARES)
+        for matrix in product(product(range(-2, 3), repeat=2), repeat=2):
+            (a, b), (c, d) = matrix
+            self.assertIs(is_laying(plane_samples.SQUARES, seen_through(matrix, value)),
+                          a * d - b * c in (1, -1), matrix)
+        for matrix in (((8, 5), (5, 3)), ((55, 34), (34, 21)), ((7, 3), (2, 1)), ((3, -7), (-2, 5))):
+            for pattern in plane_samples.plane_patterns()[::6]:
+                self.assertIs(is_laying(pattern, seen_through(matrix, laid(pattern))), True)
+        for matrix in (((3, 1), (1, 2)), ((8, 5), (5, 2)), ((12, 7), (5, 4)), ((6, 10), (15, 1))):
+            for pattern in plane_samples.plane_patterns()[::6]:
+                self.assertIs(is_laying(pattern, seen_through(matrix, laid(pattern))), False)
+
     def test_fewer_pairs(self):
         for pattern, value in plane_samples.layings()[::5]:
-            above, lead, steps, places = value
             for matrix in (((2, 0), (0, 1)), ((1, 1), (1, -1)), ((0, 0), (0, 0)), ((3, 0), (0, 3)),
                            ((1, 2), (2, 4)), ((1, 0), (0, 0)), ((0, 0), (0, 1)), ((5, 3), (2, 2))):
-                other = (
-                    above, lead, tuple(plane_samples.seen(matrix, step) for step in steps),
-                    tuple(plane_samples.as_ratios(
-                        plane_samples.seen(matrix, plane_samples.as_fractions(place))
-                    ) for place in places),
-                )
+                other = seen_through(matrix, value)
                 self.assertEqual(broken_rules(pattern, other), {"closed"})
                 self.refused(pattern, other)
 
@@ -282,26 +298,53 @@ class IsLaying(unittest.TestCase):
             above, lead, steps, places = value
             corner = plane_samples.corners_of(above)
             for c in sorted(set(corner) - {corner[0]})[:3]:
-                moved = tuple(
-                    ((1, 9), places[f][1]) if corner[f] == c else places[f]
-                    for f in range(len(places))
-                )
-                self.assertEqual(broken_rules(pattern, (above, lead, steps, moved)), {"middle"})
-                self.refused(pattern, (above, lead, steps, moved))
-                told += 1
-        self.assertGreater(told, 10)
+                for k in (0, 1):
+                    moved = tuple(
+                        replaced(place, k, (1, 97)) if corner[f] == c else place
+                        for f, place in enumerate(places)
+                    )
+                    other = (above, lead, steps, moved)
+                    self.assertEqual(broken_rules(pattern, other), {"middle"})
+                    self.refused(pattern, other)
+                    told += 1
+        self.assertGreater(told, 20)
+
+    def test_wrong_ratios_at_a_whole_corner(self):
+        told = 0
+        for pattern, value in plane_samples.layings()[::7]:
+            above, lead, steps, places = value
+            corner = plane_samples.corners_of(above)
+            for c in sorted(set(corner) - {corner[0]})[:2]:
+                for k in (0, 1):
+                    a, b = places[corner.index(c)][k]
+                    for part in ((2 * a, 2 * b), (-a, -b), (3 * a, 3 * b), (0, 0), (1, 0), (-1, 0),
+                                 (a, b, 1), (a,), [a, b], Fraction(a, b), a):
+                        wrong = tuple(
+                            replaced(place, k, part) if corner[f] == c else place
+                            for f, place in enumerate(places)
+                        )
+                        self.refused(pattern, (above, lead, steps, wrong))
+                for place in (places[corner.index(c)] + ((0, 1),), places[corner.index(c)][:1]):
+                    wrong = tuple(
+                        place if corner[f] == c else other for f, other in enumerate(places)
+                    )
+                    self.refused(pattern, (above, lead, steps, wrong))
+                    told += 1
+        self.assertGreater(told, 20)
 
     def test_a_corner_with_unlike_places(self):
-        for pattern in (samples.plain_glued(((1, 2, -1, -2, 3, -3),)), samples.TORUS):
-            value = laid(pattern)
-            for at in range(1, len(value[3])):
-                moved = replaced(value[3], at, ((1, 2), (1, 3)))
-                rules = broken_rules(pattern, value[:3] + (moved,))
-                self.assertIn("alike", rules)
-                if pattern == samples.TORUS:
-                    # With one corner alone, the spans add up to zero all the same.
-                    self.assertEqual(rules, {"alike"})
-                self.refused(pattern, value[:3] + (moved,))
+        # With one corner alone, the spans add up to zero all the same.
+        value = laid(samples.TORUS)
+        lots = [(at,) for at in range(1, 8)]
+        for change in value[0][1:3]:
+            lots += [(at, after) for at, after in enumerate(change) if 0 < at < after]
+        self.assertEqual(len(lots), 13)
+        for lot in lots:
+            moved = value[3]
+            for at in lot:
+                moved = replaced(moved, at, ((1, 2), (1, 3)))
+            self.assertEqual(broken_rules(samples.TORUS, value[:3] + (moved,)), {"alike"})
+            self.refused(samples.TORUS, value[:3] + (moved,))
 
     def test_another_cover(self):
         for pattern, value in plane_samples.layings()[::5]:
